@@ -2,6 +2,7 @@ package mean
 
 import (
 	"reflect"
+	"runtime"
 	"slices"
 	"strings"
 	"testing"
@@ -225,6 +226,9 @@ func TestNothingIsShared(t *testing.T) {
 				m.Step(a.pickOf(m.Tasks()))
 			}
 		}
+		// Else its memory may become the mean's, as nobody has it any more.
+		runtime.KeepAlive(p)
+		runtime.KeepAlive(in)
 	}
 	if found < 10000 {
 		t.Errorf("%d are found: too few", found)

@@ -196,20 +196,22 @@ func wantApart(t *testing.T, a, b span) {
 	}
 }
 
+// spansOf are those of an answer.
+func spansOf(a answer) []span {
+	list := spans(reflect.ValueOf(a.waits), nil)
+	list = spans(reflect.ValueOf(a.tree), list)
+	return spans(reflect.ValueOf(a.verdict), list)
+}
+
 // What holds everywhere: what is answered is new memory, and no two lists of it
 // share any.
 func TestAnswersOfTheirOwnMemory(t *testing.T) {
 	for _, c := range manyCodes(t) {
 		c = twin(c)
-		given := spans(reflect.ValueOf(c), nil)
-		all := func() []span {
-			l, g, _ := Waits(c)
-			v, _ := Judge(c)
-			told := spans(reflect.ValueOf(l), nil)
-			told = spans(reflect.ValueOf(g), told)
-			return spans(reflect.ValueOf(v), told)
-		}
-		first, other := all(), all()
+		// All of it is there ahead of all spans: else memory that nobody has any more
+		// may be another's.
+		one, two := answers(c), answers(c)
+		given, first, other := spans(reflect.ValueOf(c), nil), spansOf(one), spansOf(two)
 		for i, a := range first {
 			for _, b := range first[i+1:] {
 				wantApart(t, a, b)

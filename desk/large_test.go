@@ -18,23 +18,19 @@ const sixes = 6 * 6 * 6 * 6 * 6 * 6
 // P1: very many tasks and channels, of which but a few are not over.
 func TestManyTasks(t *testing.T) {
 	inTime(t, "tasks", func() {
-		d := begun(t, "stage f(s send int) { close s; }\n"+main("drain in; "+deep("chan s r int 1; spawn f(s); abandon r;")))
-		ran := 0
-		for ran == 0 || does(t, d, "run 1") == "ran 1\n" {
-			ran++
+		d := begun(t, "stage f(s send int) { close s; }\n"+main("drain in; repeat 2 {"+strings.Repeat("repeat 6 { ", 5)+"chan s r int 1; spawn f(s); abandon r;"+strings.Repeat(" }", 6)))
+		for range 10 {
 			does(t, d, "run 100000")
-			if ran > 20 {
-				t.Fatal("it goes on and on")
-			}
 		}
+		const n = 2 * 6 * 6 * 6 * 6 * 6
 		tasks, chans := does(t, d, "tasks"), does(t, d, "chans")
-		if n := strings.Count(tasks, " over\n"); n != sixes+1 || strings.Count(tasks, "\n") != n {
-			t.Errorf("%d tasks are over", n)
+		if strings.Count(tasks, "\n") != n+1 || strings.Count(tasks, " over\n") != n+1 {
+			t.Errorf("%d tasks are over", strings.Count(tasks, " over\n"))
 		}
-		if n := strings.Count(chans, " 0 gone 0\n"); n != sixes+1 || strings.Count(chans, "\n") != n {
-			t.Errorf("%d channels are gone", n)
+		if strings.Count(chans, "\n") != n+1 || strings.Count(chans, " 0 gone 0\n") != n+1 {
+			t.Errorf("%d channels are gone", strings.Count(chans, " 0 gone 0\n"))
 		}
-		tells(t, d, told("out", "stays", "ran 0"), "events", "out", "step 46656", "run 100000")
+		tells(t, d, told("out", "stays", "ran 0"), "events", "out", "step "+decimal(n), "run 100000")
 	})
 }
 
